@@ -1,0 +1,1 @@
+"""Newsways: news that goes only where it is wanted."""

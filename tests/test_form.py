@@ -1,0 +1,149 @@
+"""The form of the package's code: what of ../shared/LANGUAGE.md can be seen file by file."""
+
+import ast
+import builtins
+import io
+import pathlib
+import re
+import tokenize
+import unittest
+import warnings
+
+PACKAGE = pathlib.Path(__file__).resolve().parent.parent / "newsways"
+FILES = sorted(PACKAGE.glob("*.py"))
+
+BARRED_WORDS = (
+    "type typing typing_extensions enum Enum IntEnum StrEnum Flag IntFlag Generic Protocol ABC ABCMeta namedtuple "
+    "NamedTuple TypedDict TYPE_CHECKING abstractmethod"
+).split()
+BARRED_PARTS = ["dataclass", "overload", "contextmanager"]
+BARRED_NAMES = (
+    "register mro elements open input version_info with_traceback add_note attrgetter breakpoint builtins compile "
+    "copyright credits delattr dir eval exec exit gc getattr globals hasattr help id importlib license locals "
+    "methodcaller os quit setattr super sys type vars"
+).split()
+BUILTINS = (
+    "len range enumerate zip min max sum abs sorted reversed int str bool bytes list tuple dict set frozenset "
+    "isinstance ord repr any all divmod Exception ValueError TypeError KeyError IndexError LookupError "
+    "ZeroDivisionError ArithmeticError OverflowError RuntimeError NotImplementedError AttributeError StopIteration"
+).split()
+OWN_DOUBLES = ["__init__", "__eq__", "__repr__", "__str__", "__len__"]
+BARRED_NODES = (
+    ast.With, ast.Match, ast.Global, ast.Nonlocal, ast.Yield, ast.YieldFrom, ast.Await, ast.AsyncFunctionDef,
+    ast.AsyncFor, ast.AsyncWith, ast.GeneratorExp, ast.NamedExpr, ast.Import, ast.Div, ast.MatMult,
+)
+
+
+def nodes(tree, *kinds):
+    return [node for node in ast.walk(tree) if isinstance(node, kinds)]
+
+
+class Form(unittest.TestCase):
+    def each(self):
+        self.assertTrue(FILES)
+        for file in FILES:
+            text = file.read_text(encoding="utf-8")
+            yield text, ast.parse(text, filename=file.name)
+
+    def test_files(self):
+        for file in PACKAGE.iterdir():
+            if file.name != "__pycache__":
+                self.assertRegex(file.name, r"\A[a-z0-9_]+\.py\Z")
+        self.assertIn(PACKAGE / "__init__.py", FILES)
+
+    def test_size_and_characters(self):
+        for text, tree in self.each():
+            lines = text.split("\n")
+            self.assertLessEqual(len(lines), 400)
+            for line in lines:
+                self.assertLessEqual(len(line), 120)
+                self.assertRegex(line, r"\A[ -~]*\Z")
+            for function in nodes(tree, ast.FunctionDef):
+                self.assertLessEqual(function.end_lineno - function.lineno + 1, 40)
+
+    def test_words(self):
+        for text, tree in self.each():
+            words = re.findall(r"[A-Za-z_]+", text)
+            self.assertEqual([word for word in words if word in BARRED_WORDS], [])
+            self.assertEqual([part for part in BARRED_PARTS if part in text], [])
+
+    def test_strings(self):
+        for text, tree in self.each():
+            for node in nodes(tree, ast.Constant):
+                self.assertNotIn("%", str(node.value))
+            for token in tokenize.generate_tokens(io.StringIO(text).readline):
+                if token.type == tokenize.STRING:
+                    self.assertNotRegex(token.string.replace("\\\\", ""), r"\\[^nt'\"]")
+
+    def test_no_warning(self):
+        for text, tree in self.each():
+            with warnings.catch_warnings():
+                warnings.simplefilter("error")
+                compile(text, "form", "exec")
+
+    def test_nodes(self):
+        for text, tree in self.each():
+            self.assertEqual([ast.dump(node) for node in nodes(tree, *BARRED_NODES)], [])
+            for node in nodes(tree, ast.Constant):
+                self.assertNotIsInstance(node.value, (float, complex))
+            for node in nodes(tree, ast.For, ast.While):
+                self.assertEqual(node.orelse, [])
+            for node in nodes(tree, ast.FunctionDef, ast.ClassDef):
+                self.assertEqual(node.decorator_list, [])
+            for node in nodes(tree, ast.arguments):
+                self.assertIsNone(node.vararg or node.kwarg)
+                self.assertEqual(node.posonlyargs, [])
+            for node in nodes(tree, ast.Compare):
+                for sign, right in zip(node.ops, node.comparators):
+                    if isinstance(sign, (ast.Is, ast.IsNot)):
+                        self.assertIn(ast.unparse(right), ["None", "True", "False"])
+
+    def test_module_level(self):
+        kinds = (ast.ImportFrom, ast.FunctionDef, ast.ClassDef, ast.Assign, ast.AnnAssign)
+        for text, tree in self.each():
+            self.assertIsNotNone(ast.get_docstring(tree))
+            for node in tree.body[1:]:
+                self.assertIsInstance(node, kinds)
+
+    def test_imports(self):
+        for text, tree in self.each():
+            for node in nodes(tree, ast.ImportFrom):
+                self.assertIn(node, tree.body)
+                self.assertEqual(node.level, 0)
+                self.assertTrue(node.module == "__future__" or node.module.startswith("newsways."))
+                for name in node.names:
+                    self.assertNotEqual(name.name, "*")
+
+    def test_names(self):
+        for text, tree in self.each():
+            bound = [node.arg for node in nodes(tree, ast.arg)]
+            bound += [node.id for node in nodes(tree, ast.Name) if not isinstance(node.ctx, ast.Load)]
+            bound += [node.name for node in nodes(tree, ast.FunctionDef, ast.ClassDef)]
+            bound += [node.attr for node in nodes(tree, ast.Attribute)]
+            for name in bound:
+                self.assertTrue(name in OWN_DOUBLES or not name.startswith("_"), name)
+                self.assertNotIn(name, BARRED_NAMES)
+            imported = [name.name for node in nodes(tree, ast.ImportFrom) for name in node.names]
+            classes = [node.name for node in nodes(tree, ast.ClassDef)]
+            local = [node.arg for node in nodes(tree, ast.arg)]
+            local += [node.id for node in nodes(tree, ast.Name) if not isinstance(node.ctx, ast.Load)]
+            for name in local:
+                self.assertNotIn(name, imported + classes + dir(builtins))
+
+    def test_builtins(self):
+        for text, tree in self.each():
+            for node in nodes(tree, ast.Name):
+                if node.id in dir(builtins):
+                    self.assertIn(node.id, BUILTINS)
+
+    def test_handlers(self):
+        for text, tree in self.each():
+            for node in nodes(tree, ast.ExceptHandler):
+                self.assertIsNotNone(node.type)
+                self.assertNotIn(ast.unparse(node.type), ["Exception", "TypeError", "()"])
+            for node in nodes(tree, ast.Raise):
+                self.assertTrue(node.exc is None or isinstance(node.exc, ast.Call))
+
+
+if __name__ == "__main__":
+    unittest.main()
