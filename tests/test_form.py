@@ -1,4 +1,4 @@
-"""The form of the package's code: what of ../shared/LANGUAGE.md can be seen file by file."""
+"""The form of the package's code: some of the rules of ../shared/LANGUAGE.md, not all of them."""
 
 import ast
 import builtins
