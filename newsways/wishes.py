@@ -60,6 +60,12 @@ def check_wishes(thing):
         check_wish(wish)
 
 
+def check_unlike_wishes(thing):
+    check_wishes(thing)
+    if len(set(thing)) != len(thing):
+        raise NoWish("a list of unlike wishes is due")
+
+
 def wants(wish, piece):
     check_wish(wish)
     check_piece(piece)
@@ -75,13 +81,7 @@ def covers(one, other):
 def wish_met(one, other):
     check_wish(one)
     check_wish(other)
-    met = spans_by_field(one)
-    for field, low, high in other:
-        shared = span_shared(met.get(field, (None, None)), (low, high))
-        if shared is None:
-            return None
-        met[field] = shared
-    return tuple([(field, met[field][0], met[field][1]) for field in sorted(met)])
+    return wish_shared(one, other)
 
 
 def parting_piece(one, other):
@@ -123,12 +123,27 @@ def wish_takes(wish, piece):
 
 def wish_reaches(one, other):
     """Whether the one wants each piece that the other wants."""
+    return reaches_spans(one, spans_by_field(other))
+
+
+def reaches_spans(one, other_spans):
+    """Whether the one wants each piece that a wish of these spans, by their fields, wants."""
     # No span is empty, so what the other asks less than the one, some piece of it lacks.
-    other_spans = spans_by_field(other)
     for field, low, high in one:
         if field not in other_spans or not span_reaches((low, high), other_spans[field]):
             return False
     return True
+
+
+def wish_shared(one, other):
+    """The wish that wants just the pieces that both want, or None."""
+    met = spans_by_field(one)
+    for field, low, high in other:
+        shared = span_shared(met.get(field, (None, None)), (low, high))
+        if shared is None:
+            return None
+        met[field] = shared
+    return tuple([(field, met[field][0], met[field][1]) for field in sorted(met)])
 
 
 def rank(wish):

@@ -3,14 +3,9 @@
 import itertools
 import unittest
 
-from helper import Other, check_refused, check_told, nested, odd_things
+from helper import GREAT, GREATER, GREATEST, Other, check_refused, check_told, nested, odd_things
 from newsways.errors import NoNumber, NoSpan
 from newsways.spans import how_many_in, is_in, is_span, span_covers, span_met
-
-GREAT = 10 ** 15 - 1
-GREATER = 10 ** 40
-# Beyond this many figures Python itself refuses to write a number out.
-GREATEST = 10 ** 6000
 
 ENDS = [None, -2, -1, 0, 1, 2]
 SPANS = [(low, high) for low in ENDS for high in ENDS if low is None or high is None or low <= high]

@@ -3,14 +3,10 @@
 import itertools
 import unittest
 
-from helper import Other, check_refused, check_told, nested, odd_things, same, snapshot
+from helper import GREAT, GREATER, GREATEST, NO_PIECES, NO_WISHES
+from helper import check_refused, check_told, odd_things, same, snapshot, wanted_by_words
 from newsways.errors import NoPiece, NoWish
 from newsways.wishes import covers, in_order, is_piece, is_wish, parting_piece, wants, wish_met
-
-GREAT = 10 ** 15 - 1
-GREATER = 10 ** 40
-# Beyond this many figures Python itself refuses to write a number out.
-GREATEST = 10 ** 6000
 
 SPANS = [(None, None), (None, -1), (None, 0), (0, None), (1, None), (0, 0), (0, 1), (1, 1), (-1, 1)]
 WISHES = [
@@ -24,28 +20,6 @@ PIECES = [
     for numbers in itertools.product([None, -2, -1, 0, 1, 2], repeat=2)
 ]
 
-BAD_FIELDS = [
-    "", "abcdefghi", "x" * 2000, "A", "aB", "a1", "1", "a b", " a", "a ", "a_b", "a-b", "a:", "*", "-", "a\n", "\t",
-    "`", "{", "@", "~", None, True, 0, 1, b"a", ("a",), ["a"], {}, {"a": 1}, Other(),
-]
-NO_WISHES = odd_things() + [
-    [], [("a", 1, 2)], [()], ((),), (((),),), ("a", 1, 2), (["a", 1, 2],), (("a", 1),), (("a",),), (("a", 1, 2, 3),),
-    (("a", (1, 2)),), (("a", [1, 2]),), (("a", 2, 1),), (("a", 0, -1),), (("a", GREATER, -GREATER),),
-    (("a", True, 2),), (("a", 0, True),), (("a", None, False),), (("a", False, None),), (("a", "1", 2),),
-    (("a", 1, "2"),), (("a", [], None),), (("a", None, {}),), (("a", (), ()),), (1, "a", 2), ((1, "a", 2),),
-    (("a", 1, 2), ("a", 1, 2)), (("a", 1, 2), ("a", 3, 4)), (("b", 1, 2), ("a", 1, 2)), (("ab", 1, 2), ("a", 1, 2)),
-    (("a", 1, 2), ("c", 1, 2), ("b", 1, 2)), (("a", 1, 2), None), (("a", 1, 2), ["b", 1, 2]), (("a", 1, 2), ("b", 1)),
-    (("a", 1, 2), ("b", 3, 1)), (("a", 2, 1), ("b", 1, 1)), (("a", 1, 2), ("b", 1, 2), ("b", 1, 2)), "", "a", {}, 0,
-    {"a": (1, 2)}, ({"a": (1, 2)},), nested(20), (("a", 1), ("b", 2)), (("a", 1, 2), ("B", 1, 2)), 7, GREATEST, -1,
-] + [((field, 1, 2),) for field in BAD_FIELDS] + [(("a", 1, 2), (field, 1, 2)) for field in BAD_FIELDS]
-NO_PIECES = odd_things() + [
-    [], [("a", 1)], [()], ((),), (((),),), ("a", 1), (["a", 1],), (("a",),), (("a", 1, 2),), (("a", None),),
-    (("a", True),), (("a", False),), (("a", "1"),), (("a", []),), (("a", (1,)),), (("a", {}),), (1, "a"), ((1, "a"),),
-    (("a", 1), ("a", 1)), (("a", 1), ("a", 2)), (("b", 1), ("a", 1)), (("ab", 1), ("a", 1)), (("a", b"1"),), "", "a",
-    (("a", 1), ("c", 1), ("b", 1)), (("a", 1), None), (("a", 1), ["b", 1]), (("a", 1), ("b", 1, 2)), {"a": 1}, {}, 0,
-    (("a", None), ("b", 1)), (("a", 1), ("b", None)), (("a", 1), ("b", 1), ("b", 1)), nested(20), 7, GREATEST, -1,
-    (("a", Other()),), ({"a": 1},),
-] + [((field, 1),) for field in BAD_FIELDS] + [(("a", 1), (field, 1)) for field in BAD_FIELDS]
 LETTERS = "abcdefghijklmnopqrstuvwxyz"
 
 
@@ -99,17 +73,6 @@ class IsPiece(unittest.TestCase):
             check_told(self, wish == (), is_piece, wish)
         for piece in PIECES:
             check_told(self, piece == (), is_wish, piece)
-
-
-def wanted_by_words(wish, piece):
-    """By the document's words, field by field."""
-    for field, low, high in wish:
-        found = [number for name, number in piece if name == field]
-        if not found:
-            return False
-        if low is not None and found[0] < low or high is not None and found[0] > high:
-            return False
-    return True
 
 
 class Wants(unittest.TestCase):
