@@ -27,6 +27,15 @@ BUILTINS = (
     "isinstance ord repr any all divmod Exception ValueError TypeError KeyError IndexError LookupError "
     "ZeroDivisionError ArithmeticError OverflowError RuntimeError NotImplementedError AttributeError StopIteration"
 ).split()
+METHODS = (
+    "append clear copy count endswith extend find get index insert isalnum isalpha isdigit islower isspace isupper "
+    "items join keys ljust lower lstrip partition pop remove replace reverse rfind rjust rpartition rsplit rstrip "
+    "setdefault split splitlines startswith strip update upper values zfill bit_length"
+).split()
+BARRED_ATTRIBUTES = (
+    "items keys values pop update append clear extend insert remove reverse setdefault sort args encode decode hex "
+    "fromhex format"
+).split()
 OWN_DOUBLES = ["__init__", "__eq__", "__repr__", "__str__", "__len__"]
 BARRED_NODES = (
     ast.With, ast.Match, ast.Global, ast.Nonlocal, ast.Yield, ast.YieldFrom, ast.Await, ast.AsyncFunctionDef,
@@ -36,6 +45,19 @@ BARRED_NODES = (
 
 def nodes(tree, *kinds):
     return [node for node in ast.walk(tree) if isinstance(node, kinds)]
+
+
+def is_call_of(node, *names):
+    return isinstance(node, ast.Call) and isinstance(node.func, ast.Name) and node.func.id in names
+
+
+def is_set(node):
+    return isinstance(node, (ast.Set, ast.SetComp)) or is_call_of(node, "set")
+
+
+def own_methods(tree):
+    classes = nodes(tree, ast.ClassDef)
+    return [node.name for owner in classes for node in owner.body if isinstance(node, ast.FunctionDef)]
 
 
 class Form(unittest.TestCase):
@@ -143,6 +165,70 @@ class Form(unittest.TestCase):
                 self.assertNotIn(ast.unparse(node.type), ["Exception", "TypeError", "()"])
             for node in nodes(tree, ast.Raise):
                 self.assertTrue(node.exc is None or isinstance(node.exc, ast.Call))
+
+    def test_imports_name_the_file_that_defines_the_name(self):
+        defined = {}
+        for file in FILES:
+            tree = ast.parse(file.read_text(encoding="utf-8"))
+            functions = [node.name for node in tree.body if isinstance(node, (ast.FunctionDef, ast.ClassDef))]
+            values = [target.id for node in tree.body if isinstance(node, ast.Assign) for target in node.targets]
+            self.assertEqual(len(functions + values), len(set(functions + values)))
+            defined[f"newsways.{file.stem}"] = functions + values
+        for text, tree in self.each():
+            used = [node.id for node in nodes(tree, ast.Name)]
+            for node in nodes(tree, ast.ImportFrom):
+                for name in node.names:
+                    self.assertIsNone(name.asname)
+                    self.assertIn(name.name, defined[node.module])
+                    self.assertIn(name.name, used)
+
+    def test_no_two_files_import_from_each_other(self):
+        ahead = {}
+        for file in FILES:
+            tree = ast.parse(file.read_text(encoding="utf-8"))
+            ahead[file.stem] = {node.module.removeprefix("newsways.") for node in nodes(tree, ast.ImportFrom)}
+        while ahead:
+            free = [name for name in ahead if not ahead[name] & set(ahead)]
+            self.assertNotEqual(free, [], f"a ring among {sorted(ahead)}")
+            for name in free:
+                del ahead[name]
+
+    def test_methods_and_attributes(self):
+        methods, attributes, called = [], [], []
+        for text, tree in self.each():
+            methods += own_methods(tree)
+            calls = [node.func for node in nodes(tree, ast.Call) if isinstance(node.func, ast.Attribute)]
+            called += [node.attr for node in calls]
+            attributes += [node.attr for node in nodes(tree, ast.Attribute) if node not in calls]
+            for owner in nodes(tree, ast.ClassDef):
+                names = [node.name for node in owner.body if isinstance(node, ast.FunctionDef)]
+                self.assertEqual(len(names), len(set(names)))
+                for node in owner.body:
+                    self.assertTrue(isinstance(node, ast.FunctionDef) or node == owner.body[0])
+        self.assertEqual(sorted(set(methods) & set(attributes)), [])
+        self.assertEqual(sorted(set(attributes) & set(BARRED_ATTRIBUTES)), [])
+        for name in called:
+            self.assertIn(name, METHODS + methods)
+        for name in methods:
+            self.assertTrue(name in OWN_DOUBLES or not name.startswith("_"), name)
+
+    def test_sets(self):
+        """A set stands directly in len or sorted, or behind in; none is stored so far."""
+        for text, tree in self.each():
+            free = [node.args[0] for node in nodes(tree, ast.Call) if is_call_of(node, "len", "sorted")]
+            free += [right for node in nodes(tree, ast.Compare) for right in node.comparators]
+            for node in ast.walk(tree):
+                self.assertTrue(not is_set(node) or node in free)
+
+    def test_double_underscore_methods(self):
+        barred = (ast.Assign, ast.AugAssign, ast.AnnAssign, ast.Delete)
+        for text, tree in self.each():
+            for node in nodes(tree, ast.FunctionDef):
+                if node.name in ("__eq__", "__len__"):
+                    self.assertEqual(nodes(node, *barred), [])
+                for told in nodes(node, ast.Return):
+                    self.assertTrue(node.name != "__len__" or is_call_of(told.value, "len"))
+                    self.assertNotEqual(node.name, "__init__")
 
 
 if __name__ == "__main__":
