@@ -1,8 +1,8 @@
 """A shelf: wishes held by holders, and the greatest of them as holders put on and take off."""
 
 from newsways.errors import NoName, NotWanted, Twice
-from newsways.lists import greatest_of, is_under
-from newsways.wishes import check_piece, check_unlike_wishes, check_wish, rank, wish_reaches, wish_takes
+from newsways.pools import Pool, wishes_in_order
+from newsways.wishes import check_piece, check_unlike_wishes, check_wish, wish_reaches, wish_takes
 
 MOST_SIGNS = 15
 
@@ -18,10 +18,6 @@ def check_holder(thing):
         raise NoName(f"a holder is a text of one to {MOST_SIGNS} small letters or figures")
 
 
-def wishes_in_order(wishes):
-    return sorted(wishes, key=rank)
-
-
 class Shelf:
     """Who holds which wishes."""
 
@@ -29,8 +25,8 @@ class Shelf:
         # By holder, and the same by wish; neither keeps one of which nothing is held.
         self.by_holder = {}
         self.by_wish = {}
-        # The greatest of all, kept up to date: to find them anew each time takes long where there are many.
-        self.tops = {}
+        # Each wish as often as there are holders of it.
+        self.pool = Pool()
 
     def __len__(self):
         return len(self.by_wish)
@@ -44,12 +40,9 @@ class Shelf:
         for wish in wishes:
             if self.is_held(holder, wish):
                 raise Twice("the holder holds one of the wishes already")
-        new = [wish for wish in wishes if wish not in self.by_wish]
         for wish in wishes:
             self.hold(holder, wish)
-        come = [wish for wish in greatest_of(new) if not is_under(wish, self.tops)]
-        gone = [wish for wish in self.tops if is_under(wish, come)]
-        return self.change(come, gone)
+        return self.pool.put_in(wishes)
 
     def take(self, holder, wishes):
         check_holder(holder)
@@ -59,17 +52,13 @@ class Shelf:
                 raise NotWanted("the holder does not hold one of the wishes")
         for wish in wishes:
             self.let_go(holder, wish)
-        lost = {wish: True for wish in wishes if wish not in self.by_wish}
-        gone = [wish for wish in self.tops if wish in lost]
-        return self.change(self.risen_without(lost), gone)
+        return self.pool.take_out(wishes)
 
     def greatest(self, beside=None):
         if beside is None:
-            return wishes_in_order(self.tops)
+            return self.pool.greatest_without([])
         check_holder(beside)
-        lost = {wish: True for wish in self.by_holder.get(beside, {}) if len(self.by_wish[wish]) == 1}
-        staying = [wish for wish in self.tops if wish not in lost]
-        return wishes_in_order(staying + self.risen_without(lost))
+        return self.pool.greatest_without(list(self.by_holder.get(beside, {})))
 
     def wishes(self, holder):
         check_holder(holder)
@@ -109,18 +98,3 @@ class Shelf:
         del self.by_wish[wish][holder]
         if not self.by_wish[wish]:
             del self.by_wish[wish]
-
-    def risen_without(self, lost):
-        """The wishes that come to the greatest where the lost ones are on the shelf no more."""
-        fallen = [wish for wish in self.tops if wish in lost]
-        staying = [wish for wish in self.tops if wish not in lost]
-        # Only what a fallen one covered can rise: all else stays under one of those that stay.
-        freed = [wish for wish in self.by_wish if wish not in lost and is_under(wish, fallen)]
-        return greatest_of([wish for wish in freed if not is_under(wish, staying)])
-
-    def change(self, come, gone):
-        for wish in gone:
-            del self.tops[wish]
-        for wish in come:
-            self.tops[wish] = True
-        return (wishes_in_order(come), wishes_in_order(gone))

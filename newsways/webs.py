@@ -29,7 +29,12 @@ def check_post(web, thing):
 def check_road(web, p, q):
     check_post(web, p)
     check_post(web, q)
-    if q not in roads_from(web, p):
+    check_joined(web, p, q)
+
+
+def check_joined(web, p, q):
+    """Refuses with NoRoad also what is no post."""
+    if not is_post(web, p) or not is_post(web, q) or q not in roads_from(web, p):
         raise NoRoad("no road joins the two posts")
 
 

@@ -53,16 +53,22 @@ def check_piece(thing):
         raise NoPiece("a piece is a tuple of tuples (field, number), the fields unlike and ascending")
 
 
+def are_wishes(thing):
+    """Whether it is a list of wishes."""
+    return isinstance(thing, list) and all([is_wish(wish) for wish in thing])
+
+
+def are_unlike_wishes(thing):
+    return are_wishes(thing) and len(set(thing)) == len(thing)
+
+
 def check_wishes(thing):
-    if not isinstance(thing, list):
+    if not are_wishes(thing):
         raise NoWish("a list of wishes is due")
-    for wish in thing:
-        check_wish(wish)
 
 
 def check_unlike_wishes(thing):
-    check_wishes(thing)
-    if len(set(thing)) != len(thing):
+    if not are_unlike_wishes(thing):
         raise NoWish("a list of unlike wishes is due")
 
 
@@ -119,6 +125,11 @@ def wish_takes(wish, piece):
         if field not in numbers or not span_holds((low, high), numbers[field]):
             return False
     return True
+
+
+def one_takes(wishes, piece):
+    """Whether at least one of the wishes wants the piece."""
+    return any([wish_takes(wish, piece) for wish in wishes])
 
 
 def wish_reaches(one, other):

@@ -3,7 +3,7 @@
 import random
 import unittest
 
-from helper import GREAT, GREATER, GREATEST, NO_PIECES, NO_WISHES, Other
+from helper import GREAT, GREATER, GREATEST, NO_LISTS, NO_PIECES, NO_WISHES, Other
 from helper import check_own, check_refused, check_told, lists_within, nested, odd_things, wanted_by_words
 from newsways.errors import NoName, NoPiece, NotWanted, NoWish, Twice
 from newsways.shelves import Shelf
@@ -17,9 +17,6 @@ NO_NAMES = [thing for thing in odd_things() if thing != "a"] + [
     "x" * 16, "1" * 16, "x" * 2000, 0, 1, 7, GREATEST, b"ann", ("ann",), ["ann"], {"ann": 1}, {"ann"}, Other(),
     nested(20),
 ]
-NO_LISTS = odd_things() + [(), (A,), ((),), A, {A: 1}, {A}, "", GREATEST, nested(20)]
-NO_LISTS += [[thing] for thing in NO_WISHES] + [[A, thing] for thing in NO_WISHES]
-NO_LISTS += [[A, A], [(), ()], [A, B, A], [B, A, A], [(("a", 1, 2),), (("a", 1, 2),)]]
 
 
 class Model:

@@ -4,7 +4,7 @@ import itertools
 import random
 import unittest
 
-from helper import GREATEST, Other, check_refused, check_told, nested, odd_things
+from helper import GREATEST, NO_NUMBERS, NO_WEBS, check_refused, check_told
 from newsways.errors import NoPost, NoRoad, NoWeb
 from newsways.webs import how_many_posts, is_web, meeting, neighbours, side, way
 
@@ -13,13 +13,6 @@ CHAIN = list(range(23))
 STAR = [0] * 23
 TREE = [0, 0, 1, 1, 2, 5, 3]
 SMALL = [list(web) for many in range(5) for web in itertools.product(*[range(at + 1) for at in range(many)])]
-NO_WEBS = odd_things() + [
-    (), (0,), (0, 1), "0", "", "00", {}, {0: 0}, {0}, range(1), range(0), 0, 1, -1, GREATEST, nested(20), Other(),
-    [1], [-1], [0, 2], [0, -1], [0, 0, 3], [0, 1, 2, 4], [GREATEST], [0, GREATEST], [0, -GREATEST], [0] * 22 + [23],
-    [False], [True], [0, True], [0, False], [0, 0, True], [None], [0, None], ["0"], [0, "0"], [[0]], [0, [0]], [(0,)],
-    [0, (1,)], [{}], [b"0"], [Other()], [0] * 24, list(range(24)), [0] * 200, list(range(200)), [0] * 23 + [None],
-]
-NO_NUMBERS = odd_things() + ["0", b"0", (0,), [0], {0: 0}, (), [], -1, -GREATEST, GREATEST, nested(20)]
 
 
 def some_webs():
@@ -83,7 +76,7 @@ class Refused(unittest.TestCase):
                 check_refused(self, NoWeb, meeting, thing, 0, 0, post)
 
     def no_posts(self, web):
-        return NO_NUMBERS + [len(web) + 1, len(web) + 2, 24, 99]
+        return NO_NUMBERS + [len(web) + 1, len(web) + 2, 24, 99, GREATEST]
 
     def test_no_post(self):
         for web in (ONE, [0], TREE, CHAIN, STAR):
