@@ -109,7 +109,7 @@ class Post:
             raise NoHand("no such hand is here")
 
     def check_free(self, hand):
-        """Whether a deed of the hand can be done; at a Stop not while it is on the way."""
+        """Refuses deeds of a hand that is not here; at a Stop also of one that is on the way."""
         self.check_hand(hand)
 
     def check_neighbour(self, thing):

@@ -77,7 +77,7 @@ def check_stands(web, stands):
 def stand_of(stands, thing):
     """Where the hand stands and what it wants."""
     for hand, place, wishes in stands:
-        if is_name(thing) and hand == thing:
+        if hand == thing:
             return (place, wishes)
     raise NoHand("no such hand stands there")
 
@@ -101,10 +101,9 @@ def roads_between(web, p, q):
 
 
 def how_far(web, stands, place, wish):
-    """On how many roads it is told that a hand at this place wants a wish more, and how many wishes are unsaid by it.
-
-    A letter more or fewer ahead of the others makes no letters beyond: what it is of is covered there meanwhile.
-    """
+    """On how many roads a hand at this place makes it said that it wants a wish more, and how many are unsaid there."""
+    # What is said on a road changes but once: as wants go ahead of unwants, all that comes or goes meanwhile on the
+    # roads ahead of it stays under the wish.
     said = 0
     unsaid = 0
     for post in range(len(web) + 1):

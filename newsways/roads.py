@@ -1,17 +1,17 @@
 """Roads: the stops of a web, the letters that lie between them, and the hands that stand and move there."""
 
-from newsways.errors import Full, NoHand, NoLetter, NoName, NoNumber, NotWanted, Twice
+from newsways.errors import Full, NoHand, NoLetter, NoName, NoNumber, Twice
 from newsways.letters import is_from_nought, is_name
 from newsways.stops import Stop
 from newsways.webs import MOST_ROADS, check_joined, check_post, check_web, roads_from, way_between
-from newsways.wishes import check_piece, check_wish, is_wish
+from newsways.wishes import check_wish
 
 MOST_HANDS = 30
 MOST_WISHES = 10
 
 
 class Roads:
-    """All that goes on in a web, deed by deed."""
+    """All that goes on in a web, deed by deed; what is not refused here, the stop of the deed refuses."""
 
     def __init__(self, web=None):
         if web is not None:
@@ -55,13 +55,10 @@ class Roads:
 
     def unwant(self, hand, wish):
         stop = self.stop_of_free(hand)
-        if not is_wish(wish) or wish not in stop.wishes(hand):
-            raise NotWanted("the hand does not want this")
         self.enter(("unwant", hand, wish), stop.number, stop.unwant(hand, wish))
 
     def tell(self, post, piece):
         check_post(self.tree, post)
-        check_piece(piece)
         number = self.stops[post].told()
         self.enter(("tell", post, piece), post, self.stops[post].tell(piece))
         return number
@@ -138,6 +135,12 @@ class Roads:
 
     def rows(self):
         return [(deed, list(letters), list(given)) for deed, letters, given in self.run]
+
+    def first_letter(self, p, q):
+        """The first letter that lies on the road from p to q, or None."""
+        check_joined(self.tree, p, q)
+        letters = self.lanes[(p, q)]
+        return letters[0] if letters else None
 
     # What follows serves the methods above.
 

@@ -9,6 +9,8 @@ import tokenize
 import unittest
 import warnings
 
+from newsways import errors
+
 PACKAGE = pathlib.Path(__file__).resolve().parent.parent / "newsways"
 FILES = sorted(PACKAGE.glob("*.py"))
 
@@ -211,6 +213,76 @@ class Form(unittest.TestCase):
             self.assertIn(name, METHODS + methods)
         for name in methods:
             self.assertTrue(name in OWN_DOUBLES or not name.startswith("_"), name)
+
+    def test_attributes_that_are_read_are_assigned(self):
+        assigned, read = [], []
+        for text, tree in self.each():
+            attributes = nodes(tree, ast.Attribute)
+            assigned += [node.attr for node in attributes if isinstance(node.ctx, ast.Store)]
+            calls = [node.func for node in nodes(tree, ast.Call)]
+            read += [node.attr for node in attributes if isinstance(node.ctx, ast.Load) and node not in calls]
+        self.assertEqual(sorted(set(read) - set(assigned)), [])
+
+    def test_only_own_errors_are_caught(self):
+        own = [name for name in dir(errors) if name[0].isupper()]
+        for text, tree in self.each():
+            for node in nodes(tree, ast.ExceptHandler):
+                self.assertIn(ast.unparse(node.type), own)
+                self.assertIsNone(node.name)
+            for node in nodes(tree, ast.Try):
+                self.assertEqual((node.finalbody, node.orelse), ([], []))
+
+    def test_keywords(self):
+        """No call but those of a few builtins has keywords, and these just the ones that they may have."""
+        may = {"sorted": ["key", "reverse"], "min": ["key", "default"], "max": ["key", "default"]}
+        for text, tree in self.each():
+            for node in nodes(tree, ast.Call):
+                for keyword in node.keywords:
+                    self.assertIn(keyword.arg, may.get(ast.unparse(node.func), []))
+
+    def test_classes(self):
+        """A class is called, is a base class or stands in isinstance, except and raise, and nowhere else."""
+        for text, tree in self.each():
+            imported = [name.name for node in nodes(tree, ast.ImportFrom) for name in node.names]
+            classes = [name for name in imported if name[0].isupper() and not name.isupper()]
+            classes += [node.name for node in nodes(tree, ast.ClassDef)]
+            free = [node.func for node in nodes(tree, ast.Call)]
+            free += [base for node in nodes(tree, ast.ClassDef) for base in node.bases]
+            free += [node.type for node in nodes(tree, ast.ExceptHandler)]
+            free += [node.args[1] for node in nodes(tree, ast.Call) if is_call_of(node, "isinstance")]
+            free += [node.value for node in nodes(tree, ast.Attribute) if node.attr == "__init__"]
+            for node in nodes(tree, ast.Name):
+                self.assertTrue(node.id not in classes or node in free, node.id)
+
+    def test_tables_at_module_level_are_only_read(self):
+        for text, tree in self.each():
+            tables = [target.id for node in tree.body if isinstance(node, ast.Assign) for target in node.targets]
+            imported = [name.name for node in nodes(tree, ast.ImportFrom) for name in node.names]
+            tables += [name for name in imported if name.isupper()]
+            for node in nodes(tree, ast.Subscript):
+                if isinstance(node.value, ast.Name) and node.value.id in tables:
+                    self.assertIsInstance(node.ctx, ast.Load)
+            for node in nodes(tree, ast.Attribute):
+                self.assertFalse(isinstance(node.value, ast.Name) and node.value.id in tables)
+            for node in nodes(tree, ast.Call):
+                self.assertFalse(isinstance(node.func, ast.Subscript), "a function from a table is named first")
+
+    def test_what_is_iterated_on_the_spot_is(self):
+        once = ("zip", "enumerate", "reversed", "range")
+        for text, tree in self.each():
+            free = [node.iter for node in nodes(tree, ast.For, ast.comprehension)]
+            free += [node.args[0] for node in nodes(tree, ast.Call)
+                     if is_call_of(node, "list", "tuple", "dict", "sorted", "sum", "any", "all")]
+            for node in nodes(tree, ast.Call):
+                method = node.func.attr if isinstance(node.func, ast.Attribute) else ""
+                self.assertTrue(node in free or not (is_call_of(node, *once) or method in ("items", "keys", "values")))
+
+    def test_f_strings(self):
+        for text, tree in self.each():
+            for node in nodes(tree, ast.FormattedValue):
+                self.assertIsNone(node.format_spec)
+                for inner in nodes(node, ast.Constant):
+                    self.assertNotIsInstance(inner.value, (str, bytes))
 
     def test_sets(self):
         """A set stands directly in len or sorted, or behind in; none is stored so far."""
